@@ -1,0 +1,1 @@
+"""How many are back after n turns: rows of shuffles."""

@@ -1,9 +1,13 @@
 """What the values that are passed must be, for all parts that ask for the same."""
 
-from backafter.errors import NoCounts, NoMany, NoRow, NoShuffle
+from backafter.errors import NoCounts, NoMany, NoNumber, NoRow, NoShuffle, NoTerm
 
 MOST_THINGS = 300
 MOST_NUMBERS = 300
+MOST_TERMS = 12
+MOST_COUNT = 10 ** 6
+# The kinds of terms, each with the least and the greatest integer that may stand behind the count.
+KINDS = (("power", -40, 40), ("ring", 1, 300), ("places", 1, 6))
 
 
 def is_whole(value):
@@ -47,3 +51,28 @@ def check_many(many):
     """Raise NoMany unless the value is an integer from 1 to 300."""
     if not is_from_to(many, 1, MOST_NUMBERS):
         raise NoMany("how many numbers is an integer from 1 to 300")
+
+
+def check_number(number):
+    """Raise NoNumber unless the value is an integer from 1 to 300."""
+    if not is_from_to(number, 1, MOST_NUMBERS):
+        raise NoNumber("a number is an integer from 1 to 300")
+
+
+def is_term(value):
+    """Tell whether a value is a term of a rule."""
+    if not isinstance(value, tuple) or len(value) != 3:
+        return False
+    kind, count, size = value
+    if not isinstance(kind, str) or not is_from_to(count, -MOST_COUNT, MOST_COUNT):
+        return False
+    return any([kind == name and is_from_to(size, least, most) for name, least, most in KINDS])
+
+
+def check_rule(rule):
+    """Raise NoTerm unless the value is a list of at least one and at most twelve terms."""
+    if not isinstance(rule, list) or len(rule) == 0:
+        raise NoTerm(0)
+    for index, term in enumerate(rule):
+        if index >= MOST_TERMS or not is_term(term):
+            raise NoTerm(index)

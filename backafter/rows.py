@@ -4,6 +4,7 @@ from math import gcd, lcm
 
 from backafter.checks import check_counts, check_row, is_from_to, is_whole
 from backafter.errors import Barred, NoHole, NoPower, NoSeries, NoStep, NotWhole
+from backafter.powers import to_power
 
 MOST_POWER = 6
 
@@ -111,14 +112,7 @@ def at_powers(row, power):
     at = 1
     while at <= len(row):
         found.append(row[at - 1])
-        at = _to_power(len(found) + 1, power)
-    return found
-
-
-def _to_power(base, power):
-    found = 1
-    for _ in range(power):
-        found = found * base
+        at = to_power(len(found) + 1, power)
     return found
 
 

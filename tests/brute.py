@@ -79,3 +79,66 @@ def lengths(shuffle):
             place, turns = shuffle[place], turns + 1
         told.append(turns)
     return sorted(n for n in set(told) for _ in range(told.count(n) // n))
+
+
+def told(rule, many):
+    row = []
+    for n in range(1, many + 1):
+        number = 0
+        for kind, count, size in rule:
+            if kind == "power":
+                number += count * size ** n
+            elif kind == "ring":
+                number += count * size if n % size == 0 else 0
+            elif kind == "places":
+                number += count * n ** size
+        row.append(number)
+    return row
+
+
+def number_of(change, n):
+    return sum(number * n ** power for power, number in enumerate(change))
+
+
+def through(row, change):
+    """Return the row through a change, as long as the given one at most; it may come out empty."""
+    found = []
+    for n in range(1, len(row) + 1):
+        if number_of(change, n) > len(row):
+            break
+        found.append(row[number_of(change, n) - 1])
+    return found
+
+
+def ring_through(length, change, many):
+    """Return the first numbers of the row of one ring of so many things through a change."""
+    return [length if number_of(change, n) % length == 0 else 0 for n in range(1, many + 1)]
+
+
+def spoiler(change, most):
+    """Return (length, n) of the shortest ring, of at most so many things, that is barred within four times these."""
+    for length in range(1, most + 1):
+        bar = first_bar(ring_through(length, change, 4 * length))
+        if bar is not None:
+            return length, bar[0]
+    return None
+
+
+def walks(table, many):
+    """Return the walks of so many steps that end where they began, each a tuple of its steps."""
+    places = range(len(table))
+    steps = [(one, two, which) for one in places for two in places for which in range(table[one][two])]
+    found = [(step,) for step in steps]
+    for _ in range(many - 1):
+        found = [walk + (step,) for walk in found for step in steps if walk[-1][1] == step[0]]
+    return [walk for walk in found if walk[-1][1] == walk[0][0]]
+
+
+def walk_rings(table, many):
+    """Return the walks of so many steps as rings: each once, whatever its beginning, and none that repeats itself."""
+    found = set()
+    for walk in walks(table, many):
+        turns = [walk[k:] + walk[:k] for k in range(many)]
+        if len(set(turns)) == many:
+            found.add(min(turns))
+    return found

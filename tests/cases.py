@@ -73,6 +73,5 @@ class Case(unittest.TestCase):
         self.assertEqual(held(second), answer, call)
         for argument in args:
             if isinstance(argument, list):
-                argument[0] += 1000
-                argument.append(1000)
+                argument[:] = [1000] * (len(argument) + 1)
         self.assertEqual(held(second), answer, call)

@@ -10,19 +10,20 @@ MOST_STEPS = 10 ** 6
 
 def walk_row(table, many):
     """Return the row of how many walks of 1 to many steps end where they began."""
-    _check_table(table)
+    check_table(table)
     check_many(many)
-    return _row_of_walks(table, many)
+    return row_of_walks(table, many)
 
 
 def walk_rings(table, number):
     """Return how many rings of so many steps there are that are no shorter ring gone through several times."""
-    _check_table(table)
+    check_table(table)
     check_number(number)
-    return rings(_row_of_walks(table, number))[number - 1]
+    return rings(row_of_walks(table, number))[number - 1]
 
 
-def _row_of_walks(table, many):
+def row_of_walks(table, many):
+    """Return the walk row of a table, of as many numbers as are asked for, be they more than 300."""
     walks = table
     row = []
     for _ in range(many):
@@ -37,7 +38,8 @@ def _with_a_step(walks, table):
     return [[sum([some * more for some, more in zip(walk, column)]) for column in columns] for walk in walks]
 
 
-def _check_table(table):
+def check_table(table):
+    """Raise NoTable unless the value is a table."""
     if not isinstance(table, tuple) or not 1 <= len(table) <= MOST_PLACES:
         raise NoTable("a table is a tuple of one to six tuples")
     for steps in table:

@@ -2,27 +2,12 @@
 
 from backafter.checks import check_many, check_number, check_rule
 from backafter.errors import Barred
+from backafter.ever import first_below, new_number
 from backafter.powers import to_power
-from backafter.rows import first_bar, new_numbers
+from backafter.rows import first_bar
 
-# Most rules that are barred are barred at once; these few numbers spare the many of _FAR.
+# Most rules that are barred are barred at once.
 _NEAR = 24
-
-# A rule that is not barred up to here is barred nowhere.
-#
-# Places, added up to counts c1 to c6 of which one is not 0, leave a rest at an n up to 361: at a prime that does
-# not divide their sum; if that is 0, at the square of a prime that does not divide c1; if that is 0 too, at a
-# product of two primes p and q where p does not divide c2 * q ** 2 + .. + c6 * q ** 6. As the counts of twelve terms
-# together are at most 12 * 10 ** 6, there are such primes up to 23, up to 19, and q up to 7 with p up to 37.
-#
-# Powers leave no rest. Let w(b, n) be the new number of n for the powers of b alone. For b from 1 on it is from 0 to
-# b ** n, and for b from 2 on more than b ** n less 2 * b ** (n // 2). For -b it is -w(b, n) if n is odd, w(b, n) if
-# n is a multiple of 4, and w(b * b, m) + w(b, m) if n is 2 * m with an odd m; for b it is w(b * b, m) - w(b, m) then.
-# So for the n of each of these three kinds, those of rings aside, the new numbers are a sum of some g * w(b, m) with
-# m = n, or else n = 2 * m, where each b is at most 40 or a square: the greatest b whose g is not 0 is at least
-# 40 / 39 times the next one, and all g together are at most 24 * 10 ** 6. From m = 673 on, that is from n = 1346 on,
-# that greatest b therefore tells alone whether they are below 0.
-_FAR = 1400
 
 
 def told(rule, many):
@@ -35,11 +20,16 @@ def told(rule, many):
 def first_bar_ever(rule):
     """Return (n, kind) of the least n at which the row without an end is barred, None if there is none."""
     check_rule(rule)
-    for many in (_NEAR, _FAR):
+    many = _NEAR
+    bar = first_bar(_numbers(rule, many))
+    # Places that do not come to nothing leave a rest somewhere. All others never leave one.
+    while bar is None and len(_counts_of(rule, "places")) > 0:
+        many = 2 * many
         bar = first_bar(_numbers(rule, many))
-        if bar is not None:
-            return bar
-    return None
+    if bar is not None:
+        return bar
+    n = first_below(_counts_of(rule, "power"), _counts_of(rule, "ring"), _NEAR + 1)
+    return None if n is None else (n, "below")
 
 
 def is_turn_rule(rule):
@@ -54,7 +44,17 @@ def rings_of(rule, number):
     bar = first_bar_ever(rule)
     if bar is not None:
         raise Barred(bar[0])
-    return new_numbers(_numbers(rule, number))[number - 1] // number
+    # The places of a rule that is barred nowhere come to nothing.
+    return new_number(_counts_of(rule, "power"), _counts_of(rule, "ring"), number) // number
+
+
+def _counts_of(rule, kind):
+    """Return a dict of the counts of the terms of a kind, those of each size added up, without those that are 0."""
+    counts = {}
+    for name, count, size in rule:
+        if name == kind:
+            counts[size] = counts.get(size, 0) + count
+    return {size: count for size, count in counts.items() if count != 0}
 
 
 def _numbers(rule, many):

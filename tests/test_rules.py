@@ -1,8 +1,10 @@
 """Promises [12] and [13]: rules, their rows without an end, what bars these, and their rings."""
 
+import random
 from itertools import product
+from time import process_time
 
-from backafter import rules
+from backafter import rows, rules
 from backafter.errors import Barred, NoMany, NoNumber, NoTerm
 from backafter.rows import first_bar, rings
 from backafter.rules import first_bar_ever, is_turn_rule, rings_of, told
@@ -41,6 +43,43 @@ WRONG_TERMS = [
 FUNCTIONS_OF_A_RULE = [
     lambda rule: told(rule, 5), first_bar_ever, is_turn_rule, lambda rule: rings_of(rule, 5),
 ]
+
+
+# Rules of up to five terms that are barred nowhere, though by so little that one more would bar some of them.
+HARDLY = [
+    [("power", count, base) for count, base in powers] for powers in [
+        [(1, 40), (-1572, 39), (735311, 38)],
+        [(1, 40), (-1595, 39), (756834, 38), (100000, 6), (1000000, -6)],
+        [(1, 40), (-3, 39), (36, -38), (-40295, 37), (838459, 36)],
+        [(1, 40), (-20, 39), (9262, 37), (-10056, 36), (591, 34)],
+        [(143, 40), (-12, 39), (4921, 36), (-6051, 33), (576, 30)],
+        [(2, 40), (-2, 39), (-99, -38), (12553, 35), (5, -32)],
+        [(236620, 6), (236620, -6), (10 ** 5, 37), (-10 ** 5, -37), (1, 7)],
+        [(1, 40), (-1, 39)], [(1, 3), (-1, 2)], [(2, 2), (-1, 3), (1, 4)],
+    ]
+]
+# These too, and all that the issue of their slowness named.
+NOWHERE = HARDLY + [
+    [("power", 1, 40)], [("power", 1, 40), ("power", 1, -40)], [("power", 1, 2)], [("ring", 1, 7)], [("places", 0, 1)],
+    [("power", 1, 6), ("power", 1, 5), ("ring", 3, 4), ("power", 2, 3), ("power", 1, 2)], [("power", MOST, 40)] * 5,
+    [("ring", MOST, length) for length in range(296, 301)], [("power", 1, 2), ("ring", -3, 11), ("ring", -1, 300)],
+    [("power", 1, 40)] + [("ring", -MOST, length) for length in range(297, 301)],
+    [("places", MOST, 6), ("power", 1, 40), ("places", -MOST, 6), ("power", MOST, -39), ("power", MOST, 39)],
+]
+
+
+def random_rule(dice):
+    """Return a rule whose first bar is often far on or nowhere: great bases with small counts, and the reverse."""
+    counts = [0, 1, 2, 7, 1000, MOST]
+    top = dice.randrange(4, 41)
+    rule = [("power", dice.choice([1, 1, 2, 7, -1, -2]), top), ("power", MOST, top - dice.randrange(1, 4))]
+    for _ in range(dice.randrange(11)):
+        count = dice.choice(counts) * dice.choice([-1, 1, 1])
+        kind = dice.choice(["power", "power", "power", "ring"])
+        size = dice.randrange(-top, top + 1) if kind == "power" else dice.choice([2, 30, 31, 100, 300])
+        rule.append((kind, count, size))
+    dice.shuffle(rule)
+    return rule
 
 
 def pair(count, other, base):
@@ -244,6 +283,71 @@ class FarBarTest(Case):
         self.bars(None, [("power", MOST, 40)] + [("power", -88888, 39)] * 11)
         self.bars(None, pair(MOST, MOST - 1, 40) + [("power", -40, 1)])
 
+    def test_below_for_a_while_alone(self):
+        # The greatest base tells in the end, but before that another one takes more away than there is.
+        self.bars((263, "below"), [("power", 1, 40), ("power", -1573, 39), ("power", 735311, 38)])
+        powers = [("power", 1, 40), ("power", -1596, 39), ("power", 756834, 38)]
+        self.bars((264, "below"), powers + pair(10 ** 5, MOST, 6))
+        self.bars((121, "below"), [*HARDLY[2][:3], ("power", -40296, 37), *HARDLY[2][4:]])
+        self.bars((70, "below"), [*HARDLY[5][:2], ("power", -100, -38), *HARDLY[5][3:]])
+
+    def test_below_for_even_numbers_alone_for_a_while(self):
+        self.bars(None, pair(1, 1, 40) + pair(-1572, -1572, 39) + pair(735311, 735311, 38))
+        self.bars((264, "below"), pair(1, 1, 40) + pair(-1573, -1573, 39) + pair(735311, 735311, 38))
+
+    def test_below_for_twice_odd_numbers_alone_for_a_while(self):
+        others = pair(10 ** 5, -10 ** 5, 37) + [("power", 1, 7)]
+        self.bars(None, others + pair(236620, 236620, 6))
+        self.bars((70, "below"), others + pair(236619, 236619, 6))
+
+    def test_hardly_barred_nowhere(self):
+        for rule in NOWHERE:
+            self.bars(None, rule)
+
+    def test_rings_make_up_for_powers(self):
+        for n, count in [(25, 25251), (29, 127834)]:
+            powers = [("power", -1, 3), ("power", count, 2)]
+            self.bars((n, "below"), powers)
+            self.bars((n, "below"), powers + [("ring", MOST, n - 1), ("ring", MOST, n + 1), ("ring", 1, n)])
+            self.bars((n + 1, "below"), powers + [("ring", MOST, n)])
+            lacking = -rows.new_numbers(brute.told(powers, n))[n - 1] // n
+            self.bars((n + 1, "below"), powers + [("ring", lacking, n)])
+            self.bars((n, "below"), powers + [("ring", lacking - 1, n)])
+
+    def test_rings_make_up_for_each_other_number(self):
+        powers = pair(1, -1, 2)
+        self.bars((26, "below"), powers + [("ring", MOST, n) for n in range(2, 26, 4)])
+        self.bars((42, "below"), powers + [("ring", MOST, n) for n in range(2, 42, 4)])
+
+    def test_new_numbers_below_0_of_numbers_that_are_not(self):
+        # The powers of 2 outdo that of 3 at n, but no longer when the new numbers of the divisors of n are taken off.
+        for n in range(26, 36, 2):
+            count = 3 ** n // 2 ** n + 1
+            self.assertGreater(brute.told([("power", -1, 3), ("power", count, 2)], n)[n - 1], 0)
+            self.bars((n, "below"), [("power", -1, 3), ("power", count, 2)])
+
+    def test_rings_take_more_away_than_there_is(self):
+        for length, times in [(25, 2), (26, 3), (27, 5), (28, 10)]:
+            self.bars(None, [("power", 1, 2)] + [("ring", -MOST, length)] * (times - 1))
+            self.bars((length, "below"), [("power", 1, 2)] + [("ring", -MOST, length)] * times)
+            self.bars((length, "below"), [("ring", -MOST, length)] * times + [("power", 1, 2), ("power", -1, 1)])
+            rest = rows.new_numbers(brute.told([("power", 1, 2)], length))[length - 1] // length - (times - 1) * MOST
+            rule = [("power", 1, 2)] + [("ring", -MOST, length)] * (times - 1)
+            self.bars(None, rule + [("ring", -rest, length)])
+            self.bars((length, "below"), rule + [("ring", -rest - 1, length)])
+
+    def test_some_of_all_kinds(self):
+        dice = random.Random(13)
+        far = nowhere = 0
+        for _ in range(150):
+            rule = random_rule(dice)
+            found = first_bar_ever(rule)
+            self.assertEqual(found, first_bar(brute.told(rule, HORIZON)), rule)
+            far += found is not None and found[0] > 24
+            nowhere += found is None
+        self.assertGreater(far, 10)
+        self.assertGreater(nowhere, 30)
+
     def test_places(self):
         self.bars((3, "rest"), [("places", MOST, 1)])
         self.bars((19, "rest"), [("places", 510510, 1)])
@@ -253,6 +357,16 @@ class FarBarTest(Case):
         # In the place of n, the powers of which these are counts give 0 for 0, 1, 2 and 3.
         counts = [(4, 1), (3, -6), (2, 11), (1, -6)]
         self.bars((68, "rest"), [("places", 30030 * count, power) for power, count in counts])
+
+
+class SpeedTest(Case):
+
+    def test_a_thousand_rules_that_are_barred_nowhere(self):
+        for call in (first_bar_ever, is_turn_rule, lambda rule: rings_of(rule, 300), lambda rule: rings_of(rule, 7)):
+            start = process_time()
+            for k in range(1000):
+                call(NOWHERE[k % len(NOWHERE)])
+            self.assertLess(process_time() - start, 2)
 
 
 class RingsOfTest(Case):
